@@ -1,0 +1,1 @@
+"""Evenbits: an audio codec's bit reservoir, and the rows that are best for every convex price."""
