@@ -1,4 +1,4 @@
-"""What the files of the package share: checks of values, and running sums."""
+"""What the files of the package share: checks of values, running sums, runs, and entries at a level."""
 
 MOST_TIMES = 200
 
@@ -20,6 +20,11 @@ def is_whole_list(thing):
     return all([is_whole(entry) for entry in thing])
 
 
+def is_whole_tuple(thing, many):
+    """Whether an object is a tuple of so many integers."""
+    return isinstance(thing, tuple) and len(thing) == many and all([is_whole(part) for part in thing])
+
+
 def is_at_most(row, other):
     """Whether no entry of a list is greater than the one at its place in the other list."""
     return all([one <= two for one, two in zip(row, other)])
@@ -31,3 +36,23 @@ def sums_from_zero(row):
     for entry in row:
         sums.append(sums[-1] + entry)
     return sums
+
+
+def runs_of(items):
+    """The longest runs of equal neighbours of a list, as tuples (first, last, item): items first + 1 to last."""
+    runs, first = [], 0
+    for last in range(1, len(items) + 1):
+        if last == len(items) or items[last] != items[first]:
+            runs.append((first, last, items[first]))
+            first = last
+    return runs
+
+
+def entry_at(least, most, level):
+    """The entry e_t(level) between the bounds of an entry: the level, or the bound that it is beyond."""
+    return min(most, max(least, level))
+
+
+def entries_at(plan, level):
+    """The entries e_t(level) at the times 1 to n of a plan."""
+    return [entry_at(least, most, level) for least, most in zip(plan.least, plan.most)]

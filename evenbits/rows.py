@@ -61,16 +61,28 @@ def emptiest(plan):
 
 def sum_ranges(plan):
     """Two lists: the least and the greatest sums of rows at the times 0 to n."""
+    check_rows(plan)
     floor, ceiling = _begun_sums(plan)
-    if not is_at_most(floor, ceiling):
-        first, last = conflict(plan)
-        raise NoRow(first, last)
     least, most = plan.least, plan.most
     # A beginning is kept only as far as it can reach the sums that go on to the end.
     for time in range(len(plan) - 1, -1, -1):
         floor[time] = max(floor[time], floor[time + 1] - most[time])
         ceiling[time] = min(ceiling[time], ceiling[time + 1] - least[time])
     return floor, ceiling
+
+
+def check_rows(plan):
+    """Raises NoRow if the plan has no row."""
+    if not has_row(plan):
+        first, last = conflict(plan)
+        raise NoRow(first, last)
+
+
+def check_row(plan, row):
+    """Raises NoRow if the plan has no row, and InvalidRow if an object is none of its rows."""
+    check_rows(plan)
+    if not is_row(plan, row):
+        raise InvalidRow("this is no row of the plan")
 
 
 def _begun_sums(plan):

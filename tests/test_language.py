@@ -1,6 +1,7 @@
 """The rules of LANGUAGE.md that can be counted: files, imports, sizes, characters, and some expressions."""
 
 import ast
+import builtins
 import unittest
 from pathlib import Path
 
@@ -46,6 +47,36 @@ class LanguageTest(unittest.TestCase):
             root = node.module.split(".")[0]
             self.assertTrue(root == "evenbits" or node.module in LIBRARY, place)
             self.assertNotIn("*", [alias.name for alias in node.names], place)
+
+    def test_imports_from_the_file_that_defines_the_name(self):
+        defined = {}
+        for path, text in sources():
+            names = set()
+            for node in ast.parse(text).body:
+                if isinstance(node, (ast.FunctionDef, ast.ClassDef)):
+                    names.add(node.name)
+                elif isinstance(node, ast.Assign):
+                    names |= {target.id for target in node.targets}
+            defined[f"evenbits.{path.stem}"] = names
+        for node, place in self.nodes(ast.ImportFrom):
+            if node.module not in LIBRARY:
+                for alias in node.names:
+                    self.assertIsNone(alias.asname, place)
+                    self.assertIn(alias.name, defined[node.module], place)
+
+    def test_no_name_of_a_builtin_or_an_import_is_given_another_meaning(self):
+        for path, text in sources():
+            tree = ast.parse(text)
+            imported = {alias.name for node in ast.walk(tree) if isinstance(node, ast.ImportFrom)
+                        for alias in node.names}
+            classes = {node.name for node in ast.walk(tree) if isinstance(node, ast.ClassDef)}
+            for node in ast.walk(tree):
+                told = set()
+                if isinstance(node, ast.Name) and isinstance(node.ctx, ast.Store):
+                    told.add(node.id)
+                elif isinstance(node, (ast.FunctionDef, ast.Lambda)):
+                    told |= {argument.arg for argument in ast.walk(node.args) if isinstance(argument, ast.arg)}
+                self.assertEqual(told & (imported | classes | set(dir(builtins))), set(), path)
 
     def test_whole_numbers_only(self):
         for node, place in self.nodes(ast.Constant):
