@@ -113,13 +113,18 @@ class Plan:
 
     def loosened(self, time, side):
         """The plan with one bound of the sum at a time so wide that it bars nothing any more."""
-        if not is_between(time, 1, len(self) - 1):
-            raise InvalidTime("only a bound between 0 and the last time is loosened")
-        if side not in ("low", "high"):
-            raise InvalidSide("a side is low or high")
+        check_bound(self, time, side)
         low, high, at = self.low, self.high, time - 1
         if side == "low":
             low[at] = min(low[at], sum(self._least[:time]), self.total - sum(self._most[time:]))
         else:
             high[at] = max(high[at], sum(self._most[:time]), self.total - sum(self._least[time:]))
         return Plan(low, high, self._least, self._most)
+
+
+def check_bound(plan, time, side):
+    """Raises InvalidTime or InvalidSide unless these tell a bound of a sum before the total."""
+    if not is_between(time, 1, len(plan) - 1):
+        raise InvalidTime("only the bounds between 0 and the last time can be other ones")
+    if side not in ("low", "high"):
+        raise InvalidSide("a side is low or high")

@@ -21,9 +21,15 @@ def is_price(thing):
     return ascends and all([more >= 1 for _, more in corners])
 
 
+def check_price(price):
+    """Raises InvalidPrice if an object is no price."""
+    if not is_price(price):
+        raise InvalidPrice("a price is a tuple of a slope and a list of at most 12 ascending corners")
+
+
 def price_at(price, value):
     """The price of an entry."""
-    _check_price(price)
+    check_price(price)
     if not is_whole(value):
         raise InvalidNumber("an entry is an integer")
     return _price_of(price, value)
@@ -33,13 +39,13 @@ def cost_of(row, price):
     """The sum of the prices of the entries of a list."""
     if not is_whole_list(row):
         raise InvalidRow("a row is a list of 1 to 200 integers")
-    _check_price(price)
+    check_price(price)
     return sum([_price_of(price, entry) for entry in row])
 
 
 def least_cost(plan, price):
     """The cost of the best rows, which is the least of all rows."""
-    _check_price(price)
+    check_price(price)
     return cost_of(best_entries(plan), price)
 
 
@@ -94,12 +100,6 @@ def _price_of(price, value):
     slope, corners = price
     above = [more * (max(0, value - corner) - max(0, -corner)) for corner, more in corners]
     return slope * value + sum(above)
-
-
-def _check_price(price):
-    """Raises InvalidPrice if an object is no price."""
-    if not is_price(price):
-        raise InvalidPrice("a price is a tuple of a slope and a list of at most 12 ascending corners")
 
 
 def _check_rate(rate):

@@ -279,6 +279,34 @@ def all_pairs(times):
     return found
 
 
+def drawn_price(numbers, corners, size):
+    values = sorted({numbers.wide(-size, size) for _ in range(corners)})
+    return numbers.wide(-size, size), [(value, numbers.wide(1, size)) for value in values]
+
+
+def drawn_prices(numbers, size):
+    return [drawn_price(numbers, corners, size) for corners in range(13)]
+
+
+def no_prices():
+    """Objects that are no prices."""
+    thirteen = [(value, 1) for value in range(13)]
+    return any_objects() + [
+        (0,), (0, [], 0), [0, []], (0, ()), (0, ((1, 1),)), (0, [[1, 1]]), (0, [(1, 1), [2, 1]]), (0, thirteen),
+        (0, [(1, 1), (1, 1)]), (0, [(2, 1), (1, 1)]), (0, [(1, 1), (3, 1), (2, 1)]), (0, [(1, 0)]), (0, [(1, -1)]),
+        (0, [(1, 1), (2, 0)]), (0, [(1, -GREAT)]), (True, []), (None, []), ("0", []), (0, None), (0, "[]"), (0, {}),
+        (0, [(True, 1)]), (0, [(1, True)]), (0, [(1,)]), (0, [(1, 1, 1)]), (0, [()]), (0, [1]), (0, [None]),
+        (0, [("1", 1)]), (0, [(1, "1")]), (0, [(1, None)]), (0, [(0, True), (1, 1)]), ([], 0), (0, [(1, [1])]),
+        (Plan([3], [3], [0], [5]), []), (0, Plan([3], [3], [0], [5])), (0, [(0, 1), (1, 1), (True, 1)])]
+
+
+def cost_by(row, price):
+    """What a list costs, by the words of the definition."""
+    slope, corners = price
+    return sum(slope * entry + sum(more * (max(0, entry - value) - max(0, -value)) for value, more in corners)
+               for entry in row)
+
+
 def check_no_row(test, plan, call, *rest):
     """The call raises NoRow with the least pair that breaks a condition of R1."""
     with test.assertRaises(NoRow) as caught:

@@ -12,32 +12,12 @@ from evenbits.prices import (
 from evenbits.rows import emptiest, fullest
 from helpers import (
     GREAT, WHOLE_LISTS, Numbers, above, all_pairs, all_rows, any_objects, band_plans, below, best_by_swaps,
-    check_no_row, few_times_plans, lists_of, long_plans, many_times_plans, rowless_plans, tried_swaps, walked_swaps)
+    check_no_row, drawn_price, drawn_prices, few_times_plans, lists_of, long_plans, many_times_plans, no_prices,
+    rowless_plans, tried_swaps, walked_swaps)
 
 
 def plan_of_three():
     return Plan([0, 0, 7], [7, 7, 7], [0, 0, 0], [9, 9, 9])
-
-
-def drawn_price(numbers, corners, size):
-    values = sorted({numbers.wide(-size, size) for _ in range(corners)})
-    return numbers.wide(-size, size), [(value, numbers.wide(1, size)) for value in values]
-
-
-def drawn_prices(numbers, size):
-    return [drawn_price(numbers, corners, size) for corners in range(13)]
-
-
-def no_prices():
-    """Objects that are no prices."""
-    thirteen = [(value, 1) for value in range(13)]
-    return any_objects() + [
-        (0,), (0, [], 0), [0, []], (0, ()), (0, ((1, 1),)), (0, [[1, 1]]), (0, [(1, 1), [2, 1]]), (0, thirteen),
-        (0, [(1, 1), (1, 1)]), (0, [(2, 1), (1, 1)]), (0, [(1, 1), (3, 1), (2, 1)]), (0, [(1, 0)]), (0, [(1, -1)]),
-        (0, [(1, 1), (2, 0)]), (0, [(1, -GREAT)]), (True, []), (None, []), ("0", []), (0, None), (0, "[]"), (0, {}),
-        (0, [(True, 1)]), (0, [(1, True)]), (0, [(1,)]), (0, [(1, 1, 1)]), (0, [()]), (0, [1]), (0, [None]),
-        (0, [("1", 1)]), (0, [(1, "1")]), (0, [(1, None)]), (0, [(0, True), (1, 1)]), ([], 0), (0, [(1, [1])]),
-        (plan_of_three(), []), (0, plan_of_three()), (0, [(0, 1), (1, 1), (True, 1)])]
 
 
 def stepped_price(price, value):
