@@ -50,13 +50,13 @@ def sum_range(plan, time):
 def fullest(plan):
     """The row with the greatest sums at all times."""
     ceiling = sum_ranges(plan)[1]
-    return _entries_of(ceiling)
+    return entries_of(ceiling)
 
 
 def emptiest(plan):
     """The row with the least sums at all times."""
     floor = sum_ranges(plan)[0]
-    return _entries_of(floor)
+    return entries_of(floor)
 
 
 def sum_ranges(plan):
@@ -85,6 +85,11 @@ def check_row(plan, row):
         raise InvalidRow("this is no row of the plan")
 
 
+def entries_of(sums):
+    """The entries of the row that has these sums at the times 0 to n."""
+    return [after - before for before, after in zip(sums, sums[1:])]
+
+
 def _begun_sums(plan):
     """The least and the greatest sums at the times 0 to n if only the bounds up to each time count."""
     floor, ceiling = [0], [0]
@@ -92,8 +97,3 @@ def _begun_sums(plan):
         floor.append(max(low, floor[-1] + least))
         ceiling.append(min(high, ceiling[-1] + most))
     return floor, ceiling
-
-
-def _entries_of(sums):
-    """The entries of the row that has these sums at the times 0 to n."""
-    return [after - before for before, after in zip(sums, sums[1:])]

@@ -195,7 +195,7 @@ class BandTest(unittest.TestCase):
 
 
 def crossing_row(plan):
-    """A row whose sums are above those of some best rows and below those of others: through the middle of the bounds."""
+    """A row whose sums are above those of some best rows and below those of others: the middle of the bounds."""
     target = [(low + high) // 2 for low, high in zip(plan.low, plan.high)]
     sums = [0]
     for amount, least, most in zip(target, plan.least, plan.most):
