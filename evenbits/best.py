@@ -74,15 +74,17 @@ def levels_of(plan):
     check_rows(plan)
     bounds = ([0] + plan.low, [0] + plan.high, plan.least, plan.most)
     levels = [0] * len(plan)
-    # With a greater rate no time comes inside, so each part is halved by rates until one level is left for it.
+    # With a greater rate no time comes inside, so each part is cut by rates until one level is left for it.
     parts = [(0, len(plan), False, False, min(plan.least) - 1, max(plan.most) - 1)]
     while parts:
         first, last, left, right, lowest, highest = parts.pop()
         if lowest == highest:
             levels[first:last] = [lowest] * (last - first)
             continue
-        rate = (lowest + highest + 1) // 2
-        inside = _inside_part(bounds, (first, last, left, right), rate)
+        # A part that stays whole is outside just above the even rate, and inside at it: two cuts tell its level.
+        part = (first, last, left, right)
+        rate = min(highest, _even_rate(bounds, part, lowest) + 1)
+        inside = _inside_part(bounds, part, rate)
         for begin, end, within in runs_of(inside):
             # Runs take turns: the neighbour of a run inside is outside, and the other way round.
             before = left if begin == 0 else not within
@@ -96,6 +98,26 @@ def inside_at(plan, rate):
     """Whether each time is inside a pair, for the fewest times inside of pairs with equality in R3 at a rate."""
     bounds = ([0] + plan.low, [0] + plan.high, plan.least, plan.most)
     return _inside_part(bounds, (0, len(plan), False, False), rate)
+
+
+def _even_rate(bounds, part, lowest):
+    """The greatest rate at which a part is better all inside than all outside, or the lowest one if there is none."""
+    low, high, least, most = bounds
+    first, last, left, right = part
+    # All inside is better as long as the entries at the rate add up to less than this.
+    needed = (high[last] if right else low[last]) - (low[first] if left else high[first])
+    amount, growing = sum(least[first:last]), 0
+    if amount >= needed:
+        return lowest
+    turns = sorted([(bound, 1) for bound in least[first:last]] + [(bound, -1) for bound in most[first:last]])
+    rate = turns[0][0]
+    for turn, step in turns:
+        # Up to the next bound the sum grows, with each rate, by as many entries as lie between their own bounds.
+        reached = amount + growing * (turn - rate)
+        if reached >= needed:
+            break
+        rate, amount, growing = turn, reached, growing + step
+    return rate + (needed - amount - 1) // growing
 
 
 def _inside_part(bounds, part, rate):

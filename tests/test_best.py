@@ -1,10 +1,12 @@
 """Points 3, 4 (R1, R2) and 8: best rows."""
 
 import unittest
+from unittest import mock
 
 from evenbits import best
 from evenbits.best import (
-    best_entries, best_row, dip, latest_row, levels_of, peak, plan_of_best, same_entries, stretches, tied_times)
+    best_entries, best_row, dip, inside_at, latest_row, levels_of, peak, plan_of_best, same_entries, stretches,
+    tied_times)
 from evenbits.plans import Plan
 from evenbits.rows import emptiest, fullest, has_row
 from helpers import (
@@ -117,6 +119,43 @@ class ByTryingTest(unittest.TestCase):
             for row in all_rows(plan):
                 for gap in (1, 2):
                     self.assertEqual(walked_swaps(plan, row, gap), tried_swaps(plan, row, gap))
+
+
+def halved_levels(plan):
+    """For each time the greatest rate at which it is inside, by halving the rates; one below all if there is none."""
+    ranges = [(min(plan.least) - 1, max(plan.most) - 1)] * len(plan)
+    while any(lowest < highest for lowest, highest in ranges):
+        middles = {(lowest + highest + 1) // 2 for lowest, highest in ranges}
+        told = {rate: inside_at(plan, rate) for rate in middles}
+        for at, (lowest, highest) in enumerate(ranges):
+            if lowest < highest:
+                rate = (lowest + highest + 1) // 2
+                ranges[at] = (rate, highest) if told[rate][at] else (lowest, rate - 1)
+    return [lowest for lowest, _ in ranges]
+
+
+class LevelsTest(unittest.TestCase):
+
+    def test_halving_the_rates(self):
+        plans = few_times_plans()[::2] + plans_of_five()[::3] + many_times_plans()[::2]
+        for plan in plans + [plan.turned().negated() for plan in plans[::5]]:
+            self.assertEqual(levels_of(plan), halved_levels(plan), msg=lists_of(plan))
+
+    def test_each_rate(self):
+        for plan in few_times_plans()[::2]:
+            levels = levels_of(plan)
+            for rate in range(min(plan.least) - 2, max(plan.most) + 3):
+                inside = [rate <= level and level >= min(plan.least) for level in levels]
+                if rate >= min(plan.least):
+                    self.assertEqual(inside_at(plan, rate), inside)
+
+    def test_steps_do_not_grow_with_the_digits(self):
+        """Each part is cut twice at most before it comes apart or has its level; there are less than 2 n parts."""
+        for plan in many_times_plans() + long_plans() + few_times_plans()[::9]:
+            for told in (plan, plan.multiplied(10 ** 25), plan.lifted(GREAT)):
+                with mock.patch.object(best, "_inside_part", wraps=best._inside_part) as cut:
+                    levels_of(told)
+                self.assertLess(cut.call_count, 4 * len(plan))
 
 
 class ManyTimesTest(unittest.TestCase):
